@@ -1,0 +1,38 @@
+package calendar
+
+import "turnround/api"
+
+const (
+	multiplier = 48271
+	modulus    = 2147483647
+)
+
+// Draw returns a pseudorandom permutation of n elements.
+func Draw(key, n int) ([]int, api.Errno) {
+	if e := firstError(checkRange(key, 1, modulus-1), checkRange(n, 0, api.MaxList)); e != api.OK {
+		return nil, e
+	}
+	return shuffled(ascending(n), key), api.OK
+}
+
+func ascending(n int) []int {
+	list := make([]int, n)
+	for i := range n {
+		list[i] = i
+	}
+	return list
+}
+
+// shuffled returns a copy of a list in the order that is drawn by a key.
+func shuffled(list []int, key int) []int {
+	drawn := make([]int, len(list))
+	copy(drawn, list)
+	// 64 bits, since the product does not fit into 32.
+	x := int64(key)
+	for i := len(drawn) - 1; i >= 1; i-- {
+		x = multiplier * x % modulus
+		other := int(x % int64(i+1))
+		drawn[i], drawn[other] = drawn[other], drawn[i]
+	}
+	return drawn
+}
