@@ -5,6 +5,7 @@ import (
 	"iter"
 
 	"turnround/api"
+	"turnround/check"
 )
 
 // Limits of years, lists, weeks and clocks.
@@ -37,30 +38,9 @@ type Zone struct {
 	Changes []Change
 }
 
-// firstError returns the first of the errors that is not OK, or OK if there is none.
-func firstError(errs ...api.Errno) api.Errno {
-	for _, e := range errs {
-		if e != api.OK {
-			return e
-		}
-	}
-	return api.OK
-}
+func checkDay(day int) api.Errno { return check.Range(day, 0, api.MaxDay) }
 
-func unless(holds bool, e api.Errno) api.Errno {
-	if holds {
-		return api.OK
-	}
-	return e
-}
-
-func checkRange(n, least, most int) api.Errno {
-	return unless(least <= n && n <= most, api.ErrRange)
-}
-
-func checkDay(day int) api.Errno { return checkRange(day, 0, api.MaxDay) }
-
-func checkMoment(moment int) api.Errno { return checkRange(moment, 0, api.MaxMoment) }
+func checkMoment(moment int) api.Errno { return check.Range(moment, 0, api.MaxMoment) }
 
 // collect returns the elements of a sequence that are to be kept, in their order.
 func collect[T any](all iter.Seq[T], keep func(T) bool) []T {

@@ -1,6 +1,9 @@
 package calendar
 
-import "turnround/api"
+import (
+	"turnround/api"
+	"turnround/check"
+)
 
 const (
 	minutesOfDay = 1440
@@ -22,16 +25,16 @@ type stretch struct {
 
 // CheckZone returns the first error of a zone, or OK.
 func CheckZone(z Zone) api.Errno {
-	if e := firstError(checkOffset(z.Offset), unless(len(z.Changes) <= MaxChanges, api.ErrMany)); e != api.OK {
+	if e := check.First(checkOffset(z.Offset), check.Unless(len(z.Changes) <= MaxChanges, api.ErrMany)); e != api.OK {
 		return e
 	}
 	offset := z.Offset
 	for i, c := range z.Changes {
-		e := firstError(
+		e := check.First(
 			checkMoment(c.Moment),
 			checkOffset(c.Offset),
-			unless(max(c.Offset, offset)-min(c.Offset, offset) <= MaxStep, api.ErrLarge),
-			unless(i == 0 || c.Moment-z.Changes[i-1].Moment >= minutesOfDay, api.ErrOrder),
+			check.Unless(max(c.Offset, offset)-min(c.Offset, offset) <= MaxStep, api.ErrLarge),
+			check.Unless(i == 0 || c.Moment-z.Changes[i-1].Moment >= minutesOfDay, api.ErrOrder),
 		)
 		if e != api.OK {
 			return e
@@ -43,12 +46,12 @@ func CheckZone(z Zone) api.Errno {
 
 // Summer returns the zone with summer time for some years.
 func Summer(offset, from, to int) (Zone, api.Errno) {
-	e := firstError(
-		checkRange(offset, MinOffset, MaxOffset-summerStep),
-		checkRange(from, MinYear, MaxYear),
-		checkRange(to, MinYear, MaxYear),
-		unless(from <= to, api.ErrOrder),
-		unless(to-from < maxSummers, api.ErrMany),
+	e := check.First(
+		check.Range(offset, MinOffset, MaxOffset-summerStep),
+		check.Range(from, MinYear, MaxYear),
+		check.Range(to, MinYear, MaxYear),
+		check.Unless(from <= to, api.ErrOrder),
+		check.Unless(to-from < maxSummers, api.ErrMany),
 	)
 	if e != api.OK {
 		return Zone{}, e
@@ -66,7 +69,7 @@ func Summer(offset, from, to int) (Zone, api.Errno) {
 
 // Local returns the local moment of a universal moment.
 func Local(z Zone, moment int) (int, api.Errno) {
-	if e := firstError(CheckZone(z), checkMoment(moment)); e != api.OK {
+	if e := check.First(CheckZone(z), checkMoment(moment)); e != api.OK {
 		return 0, e
 	}
 	local := moment
@@ -83,7 +86,7 @@ func Local(z Zone, moment int) (int, api.Errno) {
 
 // Universal returns the universal moments that have a local moment.
 func Universal(z Zone, moment int) ([]int, api.Errno) {
-	if e := firstError(CheckZone(z), checkMoment(moment)); e != api.OK {
+	if e := check.First(CheckZone(z), checkMoment(moment)); e != api.OK {
 		return nil, e
 	}
 	var found []int
@@ -93,7 +96,7 @@ func Universal(z Zone, moment int) ([]int, api.Errno) {
 			found = append(found, universal)
 		}
 	}
-	return found, unless(len(found) > 0, api.ErrNone)
+	return found, check.Unless(len(found) > 0, api.ErrNone)
 }
 
 // stretches returns the stretches of all moments in a zone without error, in ascending order; one before a change at the moment 0 is empty.
@@ -109,7 +112,7 @@ func stretches(z Zone) []stretch {
 	return append(all, next)
 }
 
-func checkOffset(offset int) api.Errno { return checkRange(offset, MinOffset, MaxOffset) }
+func checkOffset(offset int) api.Errno { return check.Range(offset, MinOffset, MaxOffset) }
 
 func changeMoment(year, month int) int {
 	return minutesOfDay*lastSunday(year, month) + changeMinute

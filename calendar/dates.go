@@ -5,6 +5,7 @@ import (
 	"strings"
 
 	"turnround/api"
+	"turnround/check"
 )
 
 const (
@@ -41,7 +42,7 @@ func isDigit(r rune) bool { return '0' <= r && r <= '9' }
 
 // Day returns the day of a date.
 func Day(year, month, day int) (int, api.Errno) {
-	e := firstError(checkRange(year, MinYear, lastDateYear), checkRange(month, 1, 12), checkRange(day, 1, 31))
+	e := check.First(check.Range(year, MinYear, lastDateYear), check.Range(month, 1, 12), check.Range(day, 1, 31))
 	if e != api.OK {
 		return 0, e
 	}
@@ -128,10 +129,10 @@ func ParseMask(s string) (int, api.Errno) {
 			return 0, api.ErrSyntax
 		}
 	}
-	return mask, unless(mask != 0, api.ErrSyntax)
+	return mask, check.Unless(mask != 0, api.ErrSyntax)
 }
 
-func checkMask(mask int) api.Errno { return checkRange(mask, 1, everyDay) }
+func checkMask(mask int) api.Errno { return check.Range(mask, 1, everyDay) }
 
 // weekday and week add 5 since day 0 is a Saturday.
 func weekday(day int) int { return (day + 5) % 7 }

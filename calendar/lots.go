@@ -1,6 +1,9 @@
 package calendar
 
-import "turnround/api"
+import (
+	"turnround/api"
+	"turnround/check"
+)
 
 const (
 	multiplier = 48271
@@ -9,7 +12,7 @@ const (
 
 // Draw returns a pseudorandom permutation of n elements.
 func Draw(key, n int) ([]int, api.Errno) {
-	if e := firstError(checkRange(key, 1, modulus-1), checkRange(n, 0, api.MaxList)); e != api.OK {
+	if e := check.First(check.Range(key, 1, modulus-1), check.Range(n, 0, api.MaxList)); e != api.OK {
 		return nil, e
 	}
 	return shuffled(ascending(n), key), api.OK

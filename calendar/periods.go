@@ -5,22 +5,23 @@ import (
 	"math/bits"
 
 	"turnround/api"
+	"turnround/check"
 )
 
 // CheckPeriod returns the first error of a period, or OK.
 func CheckPeriod(p api.Period) api.Errno {
-	return firstError(
+	return check.First(
 		checkDay(p.From),
 		checkDay(p.To),
-		unless(p.From <= p.To, api.ErrOrder),
-		unless(p.To-p.From <= api.MaxSpan, api.ErrLarge),
+		check.Unless(p.From <= p.To, api.ErrOrder),
+		check.Unless(p.To-p.From <= api.MaxSpan, api.ErrLarge),
 		checkMask(p.Days),
 	)
 }
 
 // Has reports whether a day is one of a period.
 func Has(p api.Period, day int) (bool, api.Errno) {
-	if e := firstError(CheckPeriod(p), checkDay(day)); e != api.OK {
+	if e := check.First(CheckPeriod(p), checkDay(day)); e != api.OK {
 		return false, e
 	}
 	return has(p, day), api.OK
@@ -48,7 +49,7 @@ func Count(p api.Period) (int, api.Errno) {
 
 // Meet returns the days that two periods have in common.
 func Meet(a, b api.Period) ([]int, api.Errno) {
-	if e := firstError(CheckPeriod(a), CheckPeriod(b)); e != api.OK {
+	if e := check.First(CheckPeriod(a), CheckPeriod(b)); e != api.OK {
 		return nil, e
 	}
 	return collect(daysIn(a), func(day int) bool { return has(b, day) }), api.OK
@@ -56,7 +57,7 @@ func Meet(a, b api.Period) ([]int, api.Errno) {
 
 // Split returns the parts of a period before a day, and from it on.
 func Split(p api.Period, day int) ([2]api.Period, api.Errno) {
-	if e := firstError(CheckPeriod(p), unless(p.From < day && day <= p.To, api.ErrOutside)); e != api.OK {
+	if e := check.First(CheckPeriod(p), check.Unless(p.From < day && day <= p.To, api.ErrOutside)); e != api.OK {
 		return [2]api.Period{}, e
 	}
 	before, after := p, p
@@ -67,7 +68,7 @@ func Split(p api.Period, day int) ([2]api.Period, api.Errno) {
 
 // Shift returns a period that is moved by a number of days.
 func Shift(p api.Period, by int) (api.Period, api.Errno) {
-	if e := firstError(CheckPeriod(p), checkRange(by, -api.MaxDay, api.MaxDay)); e != api.OK {
+	if e := check.First(CheckPeriod(p), check.Range(by, -api.MaxDay, api.MaxDay)); e != api.OK {
 		return api.Period{}, e
 	}
 	moved := api.Period{From: p.From + by, To: p.To + by, Days: turn(p.Days, by)}
@@ -118,7 +119,7 @@ func checkAscending(days []int) api.Errno {
 		return api.ErrMany
 	}
 	for i, day := range days {
-		if e := firstError(checkDay(day), unless(i == 0 || days[i-1] < day, api.ErrOrder)); e != api.OK {
+		if e := check.First(checkDay(day), check.Unless(i == 0 || days[i-1] < day, api.ErrOrder)); e != api.OK {
 			return e
 		}
 	}

@@ -1,6 +1,9 @@
 package calendar
 
-import "turnround/api"
+import (
+	"turnround/api"
+	"turnround/check"
+)
 
 const (
 	summer = "S"
@@ -14,9 +17,9 @@ var (
 
 // CheckSeason returns the first error of a season, or OK.
 func CheckSeason(s Season) api.Errno {
-	return firstError(
-		checkRange(s.Year, MinYear, MaxYear),
-		unless(s.Kind == summer || s.Kind == winter, api.ErrKind),
+	return check.First(
+		check.Range(s.Year, MinYear, MaxYear),
+		check.Unless(s.Kind == summer || s.Kind == winter, api.ErrKind),
 	)
 }
 
@@ -30,7 +33,7 @@ func Span(s Season) (api.Period, api.Errno) {
 
 // SeasonOf returns the season of a day.
 func SeasonOf(day int) (Season, api.Errno) {
-	e := firstError(checkDay(day), unless(firstDay(firstSeason) <= day && day <= lastDay(lastSeason), api.ErrOutside))
+	e := check.First(checkDay(day), check.Unless(firstDay(firstSeason) <= day && day <= lastDay(lastSeason), api.ErrOutside))
 	if e != api.OK {
 		return Season{}, e
 	}
@@ -46,7 +49,7 @@ func SeasonOf(day int) (Season, api.Errno) {
 
 // Next returns the next season.
 func Next(s Season) (Season, api.Errno) {
-	if e := firstError(CheckSeason(s), unless(s != lastSeason, api.ErrNone)); e != api.OK {
+	if e := check.First(CheckSeason(s), check.Unless(s != lastSeason, api.ErrNone)); e != api.OK {
 		return Season{}, e
 	}
 	return following(s), api.OK
@@ -54,7 +57,7 @@ func Next(s Season) (Season, api.Errno) {
 
 // Previous returns the season before.
 func Previous(s Season) (Season, api.Errno) {
-	if e := firstError(CheckSeason(s), unless(s != firstSeason, api.ErrNone)); e != api.OK {
+	if e := check.First(CheckSeason(s), check.Unless(s != firstSeason, api.ErrNone)); e != api.OK {
 		return Season{}, e
 	}
 	if s.Kind == winter {
@@ -66,7 +69,7 @@ func Previous(s Season) (Season, api.Errno) {
 // Equivalent returns the equivalent day in a season.
 func Equivalent(day int, s Season) (int, api.Errno) {
 	own, e := SeasonOf(day)
-	if e = firstError(e, CheckSeason(s), unless(own.Kind == s.Kind, api.ErrKind)); e != api.OK {
+	if e = check.First(e, CheckSeason(s), check.Unless(own.Kind == s.Kind, api.ErrKind)); e != api.OK {
 		return 0, e
 	}
 	place := day - firstDay(own)
