@@ -34,7 +34,7 @@ const (
 	noName = "-"
 )
 
-// field is a word of a line: show returns it, and read puts it into a line, or reports that it cannot be this word by itself.
+// field is a word of a line: show returns it, and read puts it into a line that does not have it yet, or reports that it cannot be this word by itself.
 type field struct {
 	show func(l Line) string
 	read func(l *Line, word string) bool
@@ -156,7 +156,6 @@ func optionalField(at func(*Line) *string) field {
 		},
 		read: func(l *Line, word string) bool {
 			if word == noName {
-				*at(l) = ""
 				return true
 			}
 			*at(l) = word
