@@ -1,12 +1,7 @@
 // Package calendar counts days, converts dates and clocks, handles periods and scheduling seasons, and draws lots: see shared/doc/01-calendar.md.
 package calendar
 
-import (
-	"iter"
-
-	"turnround/api"
-	"turnround/check"
-)
+import "iter"
 
 // Limits of years, lists, weeks and clocks.
 const (
@@ -37,10 +32,6 @@ type Zone struct {
 	Offset  int
 	Changes []Change
 }
-
-func checkDay(day int) api.Errno { return check.Range(day, 0, api.MaxDay) }
-
-func checkMoment(moment int) api.Errno { return check.Range(moment, 0, api.MaxMoment) }
 
 // collect returns the elements of a sequence that are to be kept, in their order.
 func collect[T any](all iter.Seq[T], keep func(T) bool) []T {

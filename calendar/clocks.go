@@ -31,7 +31,7 @@ func CheckZone(z Zone) api.Errno {
 	offset := z.Offset
 	for i, c := range z.Changes {
 		e := check.First(
-			checkMoment(c.Moment),
+			check.Moment(c.Moment),
 			checkOffset(c.Offset),
 			check.Unless(max(c.Offset, offset)-min(c.Offset, offset) <= MaxStep, api.ErrLarge),
 			check.Unless(i == 0 || c.Moment-z.Changes[i-1].Moment >= minutesOfDay, api.ErrOrder),
@@ -69,7 +69,7 @@ func Summer(offset, from, to int) (Zone, api.Errno) {
 
 // Local returns the local moment of a universal moment.
 func Local(z Zone, moment int) (int, api.Errno) {
-	if e := check.First(CheckZone(z), checkMoment(moment)); e != api.OK {
+	if e := check.First(CheckZone(z), check.Moment(moment)); e != api.OK {
 		return 0, e
 	}
 	local := moment
@@ -78,7 +78,7 @@ func Local(z Zone, moment int) (int, api.Errno) {
 			local += s.offset
 		}
 	}
-	if checkMoment(local) != api.OK {
+	if check.Moment(local) != api.OK {
 		return 0, api.ErrOutside
 	}
 	return local, api.OK
@@ -86,7 +86,7 @@ func Local(z Zone, moment int) (int, api.Errno) {
 
 // Universal returns the universal moments that have a local moment.
 func Universal(z Zone, moment int) ([]int, api.Errno) {
-	if e := check.First(CheckZone(z), checkMoment(moment)); e != api.OK {
+	if e := check.First(CheckZone(z), check.Moment(moment)); e != api.OK {
 		return nil, e
 	}
 	var found []int

@@ -24,21 +24,7 @@ const (
 var monthLengths = [12]int{31, 28, 31, 30, 31, 30, 31, 31, 30, 31, 30, 31}
 
 // IsName reports whether a string is a name.
-func IsName(s string) bool {
-	if len(s) == 0 || len(s) > api.MaxName {
-		return false
-	}
-	for i, r := range s {
-		if !isLetter(r) && (i == 0 || !isDigit(r) && r != '_') {
-			return false
-		}
-	}
-	return true
-}
-
-func isLetter(r rune) bool { return 'A' <= r && r <= 'Z' || 'a' <= r && r <= 'z' }
-
-func isDigit(r rune) bool { return '0' <= r && r <= '9' }
+func IsName(s string) bool { return check.IsName(s) }
 
 // Day returns the day of a date.
 func Day(year, month, day int) (int, api.Errno) {
@@ -55,7 +41,7 @@ func Day(year, month, day int) (int, api.Errno) {
 
 // Date returns the year, the month and the day of the month of a day.
 func Date(day int) ([3]int, api.Errno) {
-	if e := checkDay(day); e != api.OK {
+	if e := check.Day(day); e != api.OK {
 		return [3]int{}, e
 	}
 	return dateOf(day), api.OK
@@ -63,7 +49,7 @@ func Date(day int) ([3]int, api.Errno) {
 
 // Weekday returns the weekday of a day, 0 for Monday.
 func Weekday(day int) (int, api.Errno) {
-	if e := checkDay(day); e != api.OK {
+	if e := check.Day(day); e != api.OK {
 		return 0, e
 	}
 	return weekday(day), api.OK
@@ -71,7 +57,7 @@ func Weekday(day int) (int, api.Errno) {
 
 // PrintDate returns the text of the date of a day.
 func PrintDate(day int) (string, api.Errno) {
-	if e := checkDay(day); e != api.OK {
+	if e := check.Day(day); e != api.OK {
 		return "", e
 	}
 	date := dateOf(day)
@@ -90,7 +76,7 @@ func ParseDate(s string) (int, api.Errno) {
 		switch {
 		case atDash && r == '-':
 			part++
-		case !atDash && isDigit(r):
+		case !atDash && check.IsDigit(r):
 			date[part] = 10*date[part] + int(r-'0')
 		default:
 			return 0, api.ErrSyntax

@@ -11,8 +11,8 @@ import (
 // CheckPeriod returns the first error of a period, or OK.
 func CheckPeriod(p api.Period) api.Errno {
 	return check.First(
-		checkDay(p.From),
-		checkDay(p.To),
+		check.Day(p.From),
+		check.Day(p.To),
 		check.Unless(p.From <= p.To, api.ErrOrder),
 		check.Unless(p.To-p.From <= api.MaxSpan, api.ErrLarge),
 		checkMask(p.Days),
@@ -21,7 +21,7 @@ func CheckPeriod(p api.Period) api.Errno {
 
 // Has reports whether a day is one of a period.
 func Has(p api.Period, day int) (bool, api.Errno) {
-	if e := check.First(CheckPeriod(p), checkDay(day)); e != api.OK {
+	if e := check.First(CheckPeriod(p), check.Day(day)); e != api.OK {
 		return false, e
 	}
 	return has(p, day), api.OK
@@ -119,7 +119,7 @@ func checkAscending(days []int) api.Errno {
 		return api.ErrMany
 	}
 	for i, day := range days {
-		if e := check.First(checkDay(day), check.Unless(i == 0 || days[i-1] < day, api.ErrOrder)); e != api.OK {
+		if e := check.First(check.Day(day), check.Unless(i == 0 || days[i-1] < day, api.ErrOrder)); e != api.OK {
 			return e
 		}
 	}

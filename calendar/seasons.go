@@ -33,7 +33,7 @@ func Span(s Season) (api.Period, api.Errno) {
 
 // SeasonOf returns the season of a day.
 func SeasonOf(day int) (Season, api.Errno) {
-	e := check.First(checkDay(day), check.Unless(firstDay(firstSeason) <= day && day <= lastDay(lastSeason), api.ErrOutside))
+	e := check.First(check.Day(day), check.Unless(firstDay(firstSeason) <= day && day <= lastDay(lastSeason), api.ErrOutside))
 	if e != api.OK {
 		return Season{}, e
 	}

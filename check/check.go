@@ -25,3 +25,18 @@ func Unless(holds bool, e api.Errno) api.Errno {
 func Range(n, least, most int) api.Errno {
 	return Unless(least <= n && n <= most, api.ErrRange)
 }
+
+// Named returns the first error of a list with at most so many elements, each with a name that no element before it has.
+func Named[T any](list []T, most int, nameOf func(T) string, checkOne func(T) api.Errno) api.Errno {
+	if len(list) > most {
+		return api.ErrMany
+	}
+	seen := map[string]bool{}
+	for _, x := range list {
+		if e := First(checkOne(x), Unless(!seen[nameOf(x)], api.ErrTwice)); e != api.OK {
+			return e
+		}
+		seen[nameOf(x)] = true
+	}
+	return api.OK
+}

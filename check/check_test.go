@@ -61,3 +61,36 @@ func TestRange(t *testing.T) {
 		}
 	}
 }
+
+// Rules: the first element with an error decides, with the first of its errors.
+func TestNamed(t *testing.T) {
+	self := func(s string) string { return s }
+	for _, x := range []struct {
+		list []string
+		most int
+		want api.Errno
+	}{
+		{nil, 0, api.OK},
+		{[]string{"a"}, 0, api.ErrMany},
+		{[]string{"a", "b", "c"}, 3, api.OK},
+		{[]string{"a", "b", "c"}, 2, api.ErrMany},
+		{[]string{"a", "", "a"}, 2, api.ErrMany},
+		{[]string{"a", "b", "a"}, 3, api.ErrTwice},
+		{[]string{"a", "", "a"}, 3, api.ErrName},
+		{[]string{"a", "a", ""}, 3, api.ErrTwice},
+		{[]string{"", ""}, 3, api.ErrName},
+		{[]string{"a", "1", ""}, 3, api.ErrName},
+	} {
+		if got := check.Named(x.list, x.most, self, check.Name); got != x.want {
+			t.Errorf("Named of %q and %d: got %d, want %d", x.list, x.most, got, x.want)
+		}
+	}
+	once := func(s string) api.Errno { return check.Unless(s != "b", api.ErrKind) }
+	first := func(s string) string { return s[:1] }
+	if got := check.Named([]string{"aa", "ab"}, 9, first, once); got != api.ErrTwice {
+		t.Errorf("Named of two elements with one name: got %d", got)
+	}
+	if got := check.Named([]string{"bb", "b"}, 9, first, once); got != api.ErrKind {
+		t.Errorf("Named of a name twice with another error: got %d", got)
+	}
+}

@@ -5,6 +5,8 @@ import (
 	"turnround/check"
 )
 
+const lastMinute = 1439
+
 // Answers returns the message with the results of requests.
 func Answers(airport, season string, day int, requests []api.Request, results []Result) (Message, api.Errno) {
 	m := Message{Kind: Answering, Airport: airport, Season: season, Day: day}
@@ -61,7 +63,7 @@ func checkResultsOf(requests []api.Request, results []Result) api.Errno {
 }
 
 func checkResults(results []Result) api.Errno {
-	return checkNamed(results, func(r Result) string { return r.Name }, checkResult)
+	return check.Named(results, api.MaxRequests, func(r Result) string { return r.Name }, checkResult)
 }
 
 func checkResult(r Result) api.Errno {
@@ -69,7 +71,7 @@ func checkResult(r Result) api.Errno {
 	if r.Granted {
 		last = lastMinute
 	}
-	return check.First(checkName(r.Name), check.Range(r.Minute, 0, last))
+	return check.First(check.Name(r.Name), check.Range(r.Minute, 0, last))
 }
 
 // answer returns the line that answers a request.

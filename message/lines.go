@@ -120,7 +120,7 @@ func fields() [lineWords]field {
 		textField(func(l *Line) *string { return &l.Action }, isAction),
 		textField(func(l *Line) *string { return &l.Request.Carrier }, calendar.IsName),
 		textField(func(l *Line) *string { return &l.Request.Name }, calendar.IsName),
-		textField(func(l *Line) *string { return &l.Request.Kind }, isKind),
+		textField(func(l *Line) *string { return &l.Request.Kind }, check.IsKind),
 		textField(func(l *Line) *string { return &l.Request.Partner }, calendar.IsName),
 		numberField(func(l *Line) *int { return &l.Request.Period.From }, dayWidth),
 		numberField(func(l *Line) *int { return &l.Request.Period.To }, dayWidth),

@@ -56,9 +56,9 @@ func ParseMessage(s string) (Message, int, api.Errno) {
 func checkHeader(m Message) api.Errno {
 	return check.First(
 		check.Unless(m.Kind == Requesting || m.Kind == Answering, api.ErrKind),
-		checkName(m.Airport),
+		check.Name(m.Airport),
 		check.Unless(isSeason(m.Season), api.ErrForm),
-		check.Range(m.Day, 0, api.MaxDay),
+		check.Day(m.Day),
 	)
 }
 

@@ -1,6 +1,9 @@
 package message
 
-import "turnround/api"
+import (
+	"turnround/api"
+	"turnround/check"
+)
 
 const (
 	minutesOfHour = 60
@@ -9,7 +12,7 @@ const (
 
 // PrintMinute returns the string of a minute of a day.
 func PrintMinute(minute int) (string, api.Errno) {
-	if e := checkMinute(minute); e != api.OK {
+	if e := check.Minute(minute); e != api.OK {
 		return "", e
 	}
 	return digits(minute/minutesOfHour, 2) + digits(minute%minutesOfHour, 2), api.OK

@@ -1,0 +1,65 @@
+package check_test
+
+import (
+	"math"
+	"strings"
+	"testing"
+
+	"turnround/api"
+	"turnround/check"
+)
+
+// Terms: a name has letters, digits and _, and begins with a letter.
+func TestNames(t *testing.T) {
+	for _, s := range []string{"a", "Z", "z", "A", "q1", "a_", "A_9", "a0", strings.Repeat("x", 24)} {
+		if !check.IsName(s) || check.Name(s) != api.OK || check.OptionalName(s) != api.OK {
+			t.Errorf("%q is a name", s)
+		}
+	}
+	for _, s := range []string{"1a", "_a", "-", "a-b", "a b", " a", "a\n", "a@", "a[", "a`", "a{", "a/", "a:", "\x00", "a\xff", "ä", "aé", "a\u0661", strings.Repeat("x", 25), strings.Repeat("é", 12)} {
+		if check.IsName(s) || check.Name(s) != api.ErrName || check.OptionalName(s) != api.ErrName {
+			t.Errorf("%q is no name", s)
+		}
+	}
+	if check.IsName("") || check.Name("") != api.ErrName || check.OptionalName("") != api.OK {
+		t.Errorf("the empty string is no name, but may stand for one")
+	}
+}
+
+// Terms: the kinds of movements are A and D.
+func TestKinds(t *testing.T) {
+	for s, want := range map[string]api.Errno{"A": api.OK, "D": api.OK, "": api.ErrKind, "a": api.ErrKind, "T": api.ErrKind, "AD": api.ErrKind, "A ": api.ErrKind} {
+		if got := check.Kind(s); got != want || check.IsKind(s) != (want == api.OK) {
+			t.Errorf("Kind of %q: got %d, want %d", s, got, want)
+		}
+	}
+}
+
+// Terms: days, minutes of the day and moments have their ranges.
+func TestTimes(t *testing.T) {
+	for _, x := range []struct {
+		what string
+		call func(int) api.Errno
+		last int
+	}{{"Day", check.Day, 99999}, {"Minute", check.Minute, 1439}, {"Moment", check.Moment, 143999999}} {
+		for _, n := range []int{0, 1, x.last} {
+			if got := x.call(n); got != api.OK {
+				t.Errorf("%s of %d: got %d", x.what, n, got)
+			}
+		}
+		for _, n := range []int{math.MinInt, -1, x.last + 1, math.MaxInt} {
+			if got := x.call(n); got != api.ErrRange {
+				t.Errorf("%s of %d: got %d", x.what, n, got)
+			}
+		}
+	}
+}
+
+// Terms: the digits are 0 to 9.
+func TestDigits(t *testing.T) {
+	for r := range rune(0x700) {
+		if got := check.IsDigit(r); got != strings.ContainsRune("0123456789", r) {
+			t.Errorf("IsDigit of %q: got %v", r, got)
+		}
+	}
+}
