@@ -26,17 +26,31 @@ func Range(n, least, most int) api.Errno {
 	return Unless(least <= n && n <= most, api.ErrRange)
 }
 
-// Named returns the first error of a list with at most so many elements, each with a name that no element before it has.
-func Named[T any](list []T, most int, nameOf func(T) string, checkOne func(T) api.Errno) api.Errno {
+// List returns ErrMany for a list with more than so many elements, otherwise the error of the first element with one, or OK.
+func List[T any](list []T, most int, checkOne func(T) api.Errno) api.Errno {
 	if len(list) > most {
 		return api.ErrMany
 	}
-	seen := map[string]bool{}
 	for _, x := range list {
-		if e := First(checkOne(x), Unless(!seen[nameOf(x)], api.ErrTwice)); e != api.OK {
+		if e := checkOne(x); e != api.OK {
 			return e
 		}
-		seen[nameOf(x)] = true
 	}
 	return api.OK
+}
+
+// Named returns the first error of a list with at most so many elements, each with a name that no element before it has.
+func Named[T any](list []T, most int, nameOf func(T) string, checkOne func(T) api.Errno) api.Errno {
+	once := Once()
+	return List(list, most, func(x T) api.Errno { return First(checkOne(x), once(nameOf(x))) })
+}
+
+// Once returns a function that returns ErrTwice for a string that it was called with before, otherwise OK.
+func Once() func(string) api.Errno {
+	seen := map[string]bool{}
+	return func(s string) api.Errno {
+		e := Unless(!seen[s], api.ErrTwice)
+		seen[s] = true
+		return e
+	}
 }

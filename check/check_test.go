@@ -62,6 +62,58 @@ func TestRange(t *testing.T) {
 	}
 }
 
+// Rules: the first element with an error decides; "at most n" includes n.
+func TestList(t *testing.T) {
+	for _, x := range []struct {
+		list []string
+		most int
+		want api.Errno
+	}{
+		{nil, 0, api.OK},
+		{[]string{"a"}, 0, api.ErrMany},
+		{[]string{"a"}, -1, api.ErrMany},
+		{[]string{"a", "a", "a"}, 3, api.OK},
+		{[]string{"a", "a", "a"}, 2, api.ErrMany},
+		{[]string{"", "a", "a"}, 2, api.ErrMany},
+		{[]string{"", "a", "a"}, 3, api.ErrName},
+		{[]string{"a", "a", ""}, 3, api.ErrName},
+	} {
+		if got := check.List(x.list, x.most, check.Name); got != x.want {
+			t.Errorf("List of %q and %d: got %d, want %d", x.list, x.most, got, x.want)
+		}
+	}
+	asIs := func(e api.Errno) api.Errno { return e }
+	if got := check.List([]api.Errno{api.OK, api.ErrKind, api.OK, api.ErrForm}, 4, asIs); got != api.ErrKind {
+		t.Errorf("List of two errors: got %d", got)
+	}
+	calls := 0
+	count := func(int) api.Errno {
+		calls++
+		return check.Unless(calls < 2, api.ErrForm)
+	}
+	if got := check.List([]int{1, 2, 3}, 3, count); got != api.ErrForm || calls != 2 {
+		t.Errorf("List with an error of the second element: got %d after %d calls", got, calls)
+	}
+}
+
+// Rules: the same thing twice is an error at the second place; another list may have it, too.
+func TestOnce(t *testing.T) {
+	once := check.Once()
+	for i, x := range []struct {
+		s    string
+		want api.Errno
+	}{
+		{"a", api.OK}, {"b", api.OK}, {"a", api.ErrTwice}, {"A", api.OK}, {"", api.OK}, {"a", api.ErrTwice}, {"", api.ErrTwice}, {"b", api.ErrTwice},
+	} {
+		if got := once(x.s); got != x.want {
+			t.Errorf("Once of %q at %d: got %d, want %d", x.s, i, got, x.want)
+		}
+	}
+	if got := check.Once()("a"); got != api.OK {
+		t.Errorf("Once of another list: got %d", got)
+	}
+}
+
 // Rules: the first element with an error decides, with the first of its errors.
 func TestNamed(t *testing.T) {
 	self := func(s string) string { return s }
