@@ -3,6 +3,7 @@ package calendar
 import (
 	"turnround/api"
 	"turnround/check"
+	"turnround/lists"
 )
 
 const (
@@ -15,15 +16,7 @@ func Draw(key, n int) ([]int, api.Errno) {
 	if e := check.First(check.Range(key, 1, modulus-1), check.Range(n, 0, api.MaxList)); e != api.OK {
 		return nil, e
 	}
-	return shuffled(ascending(n), key), api.OK
-}
-
-func ascending(n int) []int {
-	list := make([]int, n)
-	for i := range n {
-		list[i] = i
-	}
-	return list
+	return shuffled(lists.Ascending(n), key), api.OK
 }
 
 // shuffled returns a copy of a list in the order that is drawn by a key.

@@ -3,6 +3,7 @@ package message
 import (
 	"turnround/api"
 	"turnround/check"
+	"turnround/lists"
 )
 
 const lastMinute = 1439
@@ -13,7 +14,9 @@ func Answers(airport, season string, day int, requests []api.Request, results []
 	if e := check.First(checkHeader(m), checkResultsOf(requests, results)); e != api.OK {
 		return Message{}, e
 	}
-	m.Lines = transform(results, func(i int, r Result) Line { return answer(requests[i], r) })
+	for i, r := range results {
+		m.Lines = append(m.Lines, answer(requests[i], r))
+	}
 	return m, api.OK
 }
 
@@ -22,7 +25,7 @@ func Results(m Message) ([]Result, api.Errno) {
 	if e := check.First(CheckMessage(m), check.Unless(m.Kind == Answering, api.ErrKind)); e != api.OK {
 		return nil, e
 	}
-	results := transform(m.Lines, func(_ int, l Line) Result { return resultOf(l) })
+	results := lists.Transform(m.Lines, resultOf)
 	// The results of valid lines have no other error than a name that occurs twice.
 	if e := checkResults(results); e != api.OK {
 		return nil, e

@@ -7,6 +7,7 @@ import (
 	"turnround/api"
 	"turnround/calendar"
 	"turnround/check"
+	"turnround/lists"
 )
 
 // The actions of requests.
@@ -74,7 +75,7 @@ func ParseLine(s string) (Line, int, api.Errno) {
 // printLine is PrintLine for a line without error.
 func printLine(l Line) string {
 	all := fields()
-	words := transform(all[:], func(_ int, f field) string { return f.show(l) })
+	words := lists.Transform(all[:], func(f field) string { return f.show(l) })
 	return strings.Join(words, " ")
 }
 

@@ -5,6 +5,7 @@ import (
 
 	"turnround/api"
 	"turnround/check"
+	"turnround/lists"
 )
 
 const (
@@ -32,7 +33,7 @@ func PrintMessage(m Message) (string, api.Errno) {
 	if e := CheckMessage(m); e != api.OK {
 		return "", e
 	}
-	lines := transform(m.Lines, func(_ int, l Line) string { return printLine(l) + "\n" })
+	lines := lists.Transform(m.Lines, func(l Line) string { return printLine(l) + "\n" })
 	return printHeader(m) + strings.Join(lines, "") + printFooter(len(lines)), api.OK
 }
 

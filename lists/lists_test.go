@@ -1,0 +1,44 @@
+package lists_test
+
+import (
+	"slices"
+	"strconv"
+	"testing"
+
+	"turnround/lists"
+)
+
+// Rules: a list is transformed element by element, in its order, and stays as it is.
+func TestTransform(t *testing.T) {
+	for _, numbers := range [][]int{nil, {}, {7}, {3, 1, 2, 1}} {
+		before := slices.Clone(numbers)
+		got := lists.Transform(numbers, strconv.Itoa)
+		if len(got) != len(numbers) {
+			t.Errorf("Transform of %v: got %q", numbers, got)
+		}
+		for i, s := range got {
+			if s != strconv.Itoa(numbers[i]) {
+				t.Errorf("Transform of %v at %d: got %q", numbers, i, s)
+			}
+		}
+		if !slices.Equal(numbers, before) {
+			t.Errorf("Transform changed %v to %v", before, numbers)
+		}
+	}
+	same := []int{1, 2, 3}
+	copied := lists.Transform(same, func(n int) int { return n })
+	copied[0] = 9
+	_ = append(copied[:1], 9)
+	if !slices.Equal(same, []int{1, 2, 3}) {
+		t.Errorf("Transform shares memory: %v", same)
+	}
+}
+
+// Rules: things are numbered from 0 on.
+func TestAscending(t *testing.T) {
+	for n, want := range [][]int{{}, {0}, {0, 1}, {0, 1, 2}} {
+		if got := lists.Ascending(n); !slices.Equal(got, want) {
+			t.Errorf("Ascending of %d: got %v, want %v", n, got, want)
+		}
+	}
+}
