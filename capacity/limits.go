@@ -8,9 +8,6 @@ import (
 	"turnround/check"
 )
 
-// bothKinds is the kind of limits for arrivals and departures.
-const bothKinds = "T"
-
 // kind is a kind of limits; includes reports whether movements of a kind count for them.
 type kind struct {
 	name     string
@@ -76,7 +73,7 @@ func kinds() [3]kind {
 	return [3]kind{
 		one(api.Arrival),
 		one(api.Departure),
-		{name: bothKinds, includes: func(string) bool { return true }},
+		{name: check.BothKinds, includes: func(string) bool { return true }},
 	}
 }
 

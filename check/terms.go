@@ -2,6 +2,9 @@ package check
 
 import "turnround/api"
 
+// BothKinds is the kind of limits for arrivals and departures.
+const BothKinds = "T"
+
 const minutesOfDay = 1440
 
 // Name returns ErrName if a string is not a name, otherwise OK.
@@ -40,5 +43,10 @@ func IsKind(s string) bool { return s == api.Arrival || s == api.Departure }
 
 // IsDigit reports whether a rune is one of the digits 0 to 9.
 func IsDigit(r rune) bool { return '0' <= r && r <= '9' }
+
+// Counts reports whether a movement counts for a limit of a kind and a terminal, which is empty for all terminals.
+func Counts(kind, terminal string, m api.Movement) bool {
+	return (kind == BothKinds || kind == m.Kind) && (terminal == "" || terminal == m.Terminal)
+}
 
 func isLetter(r rune) bool { return 'A' <= r && r <= 'Z' || 'a' <= r && r <= 'z' }

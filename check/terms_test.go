@@ -63,3 +63,30 @@ func TestDigits(t *testing.T) {
 		}
 	}
 }
+
+// Terms: a movement counts for a limit of its kind or of both kinds, and of its terminal or of all.
+func TestCounts(t *testing.T) {
+	for _, x := range []struct {
+		kind, terminal string
+		m              api.Movement
+		want           bool
+	}{
+		{"A", "", api.Movement{Kind: "A"}, true},
+		{"D", "", api.Movement{Kind: "D"}, true},
+		{"A", "", api.Movement{Kind: "D"}, false},
+		{"D", "", api.Movement{Kind: "A"}, false},
+		{"T", "", api.Movement{Kind: "A"}, true},
+		{"T", "", api.Movement{Kind: "D"}, true},
+		{"T", "", api.Movement{Kind: "D", Terminal: "t"}, true},
+		{"T", "t", api.Movement{Kind: "D", Terminal: "t"}, true},
+		{"D", "t", api.Movement{Kind: "D", Terminal: "t"}, true},
+		{"A", "t", api.Movement{Kind: "D", Terminal: "t"}, false},
+		{"D", "t", api.Movement{Kind: "D", Terminal: "u"}, false},
+		{"D", "t", api.Movement{Kind: "D"}, false},
+		{"T", "t", api.Movement{Kind: "A"}, false},
+	} {
+		if got := check.Counts(x.kind, x.terminal, x.m); got != x.want {
+			t.Errorf("Counts of %q, %q and %v: got %v", x.kind, x.terminal, x.m, got)
+		}
+	}
+}

@@ -9,15 +9,12 @@ import (
 	"turnround/check"
 )
 
-// bothKinds is the kind of limits for arrivals and departures.
-const bothKinds = "T"
-
 // CheckSeats returns the first error of seat limits, or OK.
 func CheckSeats(l []SeatLimit) api.Errno {
 	return check.List(l, api.MaxLimits, func(l SeatLimit) api.Errno {
 		return check.First(
 			checkTerminal(l.Terminal),
-			check.Unless(l.Kind == bothKinds || check.IsKind(l.Kind), api.ErrKind),
+			check.Unless(l.Kind == check.BothKinds || check.IsKind(l.Kind), api.ErrKind),
 			check.Range(l.Length, 1, MaxLength),
 			check.Range(l.Step, 1, l.Length),
 			check.Range(l.Most, 0, api.MaxNumber),
@@ -74,7 +71,7 @@ func Room(l []SeatLimit, movements []api.Movement, m api.Movement) (int, api.Err
 
 // counts reports whether a movement counts in the windows of a limit.
 func counts(l SeatLimit, m api.Movement) bool {
-	return (l.Kind == bothKinds || l.Kind == m.Kind) && (l.Terminal == "" || l.Terminal == m.Terminal)
+	return check.Counts(l.Kind, l.Terminal, m)
 }
 
 // counted returns the movements that count in the windows of a limit, in the order of their moments.
