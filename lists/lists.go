@@ -1,4 +1,4 @@
-// Package lists makes lists, of numbers and of other lists; all layers use it.
+// Package lists makes lists, of numbers and of other lists, and sums; all layers use it.
 package lists
 
 // Transform returns what becomes of each element of a list.
@@ -8,6 +8,15 @@ func Transform[S, T any](list []S, become func(S) T) []T {
 		changed[i] = become(x)
 	}
 	return changed
+}
+
+// Sum returns the sum of the numbers of all elements of a list.
+func Sum[T any](list []T, numberOf func(i int, x T) int) int {
+	sum := 0
+	for i, x := range list {
+		sum += numberOf(i, x)
+	}
+	return sum
 }
 
 // Ascending returns the numbers from 0 to n - 1.

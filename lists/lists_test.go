@@ -34,6 +34,26 @@ func TestTransform(t *testing.T) {
 	}
 }
 
+// Rules: a sum has the number of each element once, also with its index.
+func TestSum(t *testing.T) {
+	for _, words := range [][]string{nil, {""}, {"abc"}, {"abc", "", "d", "d"}} {
+		length, places := 0, 0
+		for i, word := range words {
+			length += len(word)
+			places += i * len(word)
+		}
+		if got := lists.Sum(words, func(_ int, word string) int { return len(word) }); got != length {
+			t.Errorf("Sum of the lengths of %q: got %d, want %d", words, got, length)
+		}
+		if got := lists.Sum(words, func(i int, word string) int { return i * len(word) }); got != places {
+			t.Errorf("Sum with indices of %q: got %d, want %d", words, got, places)
+		}
+	}
+	if got := lists.Sum([]int{5, -7}, func(_, n int) int { return n }); got != -2 {
+		t.Errorf("Sum below 0: got %d", got)
+	}
+}
+
 // Rules: things are numbered from 0 on.
 func TestAscending(t *testing.T) {
 	for n, want := range [][]int{{}, {0}, {0, 1}, {0, 1, 2}} {

@@ -32,6 +32,11 @@ func (s Series) At(minute int) Series {
 	return s
 }
 
+// CountsIn reports whether a movement counts in the window of a limit that begins at a moment.
+func (s Series) CountsIn(l capacity.Limit, begin int) bool {
+	return s.countsFor(l) && s.isBetween(begin, begin+l.Length)
+}
+
 func (s Series) moment(day int) int { return day*minutesOfDay + s.Minute }
 
 // isBetween reports whether a movement is at a moment from one on, and before another one.

@@ -61,9 +61,7 @@ func (t *Tally) Fits(further ...Series) bool {
 // Has reports whether a movement of some series counts in a window.
 func (t *Tally) Has(w capacity.Window, all ...Series) bool {
 	l := t.gauges[w.Limit].limit
-	return slices.ContainsFunc(all, func(s Series) bool {
-		return s.countsFor(l) && s.isBetween(w.Begin, w.Begin+l.Length)
-	})
+	return slices.ContainsFunc(all, func(s Series) bool { return s.CountsIn(l, w.Begin) })
 }
 
 func (t *Tally) add(all []Series, by int) {

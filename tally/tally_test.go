@@ -116,6 +116,36 @@ func TestSeriesOf(t *testing.T) {
 	}
 }
 
+// Terms: a movement counts in the windows of a limit for its kind and terminal that contain its moment.
+func TestCountsIn(t *testing.T) {
+	l := hour(func(l *capacity.Limit) { l.Kind, l.Terminal = "A", "t" })
+	for _, x := range []struct {
+		what  string
+		s     tally.Series
+		begin int
+		want  bool
+	}{
+		{"at the beginning", series("A", "t", 600, 2), 2880 + 600, true},
+		{"before the beginning", series("A", "t", 599, 2), 2880 + 600, false},
+		{"before the end", series("A", "t", 659, 2), 2880 + 600, true},
+		{"at the end", series("A", "t", 660, 2), 2880 + 600, false},
+		{"on a later one of its days", series("A", "t", 600, 0, 1, 2, 9), 2880 + 600, true},
+		{"between its days", series("A", "t", 600, 0, 1, 3, 9), 2880 + 600, false},
+		{"on the day before", series("A", "t", 1440+600, 1), 2880 + 600, true},
+		{"of another kind", series("D", "t", 600, 2), 2880 + 600, false},
+		{"of another terminal", series("A", "u", 600, 2), 2880 + 600, false},
+		{"of no terminal", series("A", "", 600, 2), 2880 + 600, false},
+		{"no movements", tally.Series{}, 2880 + 600, false},
+	} {
+		if got := x.s.CountsIn(l, x.begin); got != x.want {
+			t.Errorf("CountsIn %s: got %v", x.what, got)
+		}
+	}
+	if !series("D", "u", 600, 2).CountsIn(hour(), 2880+600) {
+		t.Errorf("CountsIn for all kinds and terminals: got false")
+	}
+}
+
 // noise is a fixed sequence of numbers from 0 to n - 1 for inputs of many forms.
 type noise uint32
 
