@@ -44,7 +44,7 @@ func Merge(a, b []api.Movement) ([]api.Movement, api.Errno) {
 	copy(merged, a)
 	copy(merged[len(a):], b)
 	// The lists are in the order of moments alone, so their elements may have to be exchanged, too.
-	slices.SortStableFunc(merged, inOrder)
+	slices.SortStableFunc(merged, check.CompareMovements)
 	return merged, api.OK
 }
 
@@ -96,15 +96,6 @@ func movementOn(r api.Request, day int) api.Movement {
 		Noise:    r.Noise,
 		Name:     r.Name,
 	}
-}
-
-// inOrder compares movements by moments, then by kinds, then by names.
-func inOrder(a, b api.Movement) int {
-	return cmp.Or(
-		cmp.Compare(a.Moment, b.Moment),
-		cmp.Compare(a.Kind, b.Kind),
-		cmp.Compare(a.Name, b.Name),
-	)
 }
 
 // between returns the part of movements from a moment on, and before another one.

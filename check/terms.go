@@ -1,6 +1,10 @@
 package check
 
-import "turnround/api"
+import (
+	"cmp"
+
+	"turnround/api"
+)
 
 // BothKinds is the kind of limits for arrivals and departures.
 const BothKinds = "T"
@@ -47,6 +51,15 @@ func IsDigit(r rune) bool { return '0' <= r && r <= '9' }
 // Counts reports whether a movement counts for a limit of a kind and a terminal, which is empty for all terminals.
 func Counts(kind, terminal string, m api.Movement) bool {
 	return (kind == BothKinds || kind == m.Kind) && (terminal == "" || terminal == m.Terminal)
+}
+
+// CompareMovements compares movements by moments, then by kinds, then by names.
+func CompareMovements(a, b api.Movement) int {
+	return cmp.Or(
+		cmp.Compare(a.Moment, b.Moment),
+		cmp.Compare(a.Kind, b.Kind),
+		cmp.Compare(a.Name, b.Name),
+	)
 }
 
 func isLetter(r rune) bool { return 'A' <= r && r <= 'Z' || 'a' <= r && r <= 'z' }

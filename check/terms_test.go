@@ -1,6 +1,7 @@
 package check_test
 
 import (
+	"cmp"
 	"math"
 	"strings"
 	"testing"
@@ -87,6 +88,30 @@ func TestCounts(t *testing.T) {
 	} {
 		if got := check.Counts(x.kind, x.terminal, x.m); got != x.want {
 			t.Errorf("Counts of %q, %q and %v: got %v", x.kind, x.terminal, x.m, got)
+		}
+	}
+}
+
+// Terms: the order of movements is by moments, then by kinds, then by names (by bytes).
+func TestCompareMovements(t *testing.T) {
+	ascending := []api.Movement{
+		{},
+		{Name: "a"},
+		{Kind: "A", Name: "B"},
+		{Kind: "A", Name: "a"},
+		{Kind: "A", Name: "aa"},
+		{Kind: "A", Name: "b"},
+		{Kind: "D", Name: "A"},
+		{Moment: 1, Kind: "A", Name: "A"},
+		{Moment: 1, Kind: "A", Name: "\xff"},
+		{Moment: 2},
+	}
+	for i, a := range ascending {
+		for j, b := range ascending {
+			a.Terminal, a.Seats, a.Size, a.Noise = "z", 9-i, i, 9-i
+			if got := check.CompareMovements(a, b); got != cmp.Compare(i, j) {
+				t.Errorf("CompareMovements of %v and %v: got %d", a, b, got)
+			}
 		}
 	}
 }
