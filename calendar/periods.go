@@ -11,9 +11,7 @@ import (
 // CheckPeriod returns the first error of a period, or OK.
 func CheckPeriod(p api.Period) api.Errno {
 	return check.First(
-		check.Day(p.From),
-		check.Day(p.To),
-		check.Unless(p.From <= p.To, api.ErrOrder),
+		check.Days(p.From, p.To),
 		check.Unless(p.To-p.From <= api.MaxSpan, api.ErrLarge),
 		checkMask(p.Days),
 	)

@@ -23,6 +23,11 @@ func Kind(s string) api.Errno { return Unless(IsKind(s), api.ErrKind) }
 // Day returns ErrRange if a number is not a day, otherwise OK.
 func Day(day int) api.Errno { return Range(day, 0, api.MaxDay) }
 
+// Days returns ErrRange if the first or the last one of some days is not a day, ErrOrder if the last one is before the first one, otherwise OK.
+func Days(from, to int) api.Errno {
+	return First(Day(from), Day(to), Unless(from <= to, api.ErrOrder))
+}
+
 // Minute returns ErrRange if a number is not a minute of a day, otherwise OK.
 func Minute(minute int) api.Errno { return Range(minute, 0, minutesOfDay-1) }
 

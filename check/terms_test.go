@@ -56,6 +56,22 @@ func TestTimes(t *testing.T) {
 	}
 }
 
+// Terms: days from a day to another one are both days, and the last one is not before the first one.
+func TestDays(t *testing.T) {
+	for _, x := range []struct {
+		from, to int
+		want     api.Errno
+	}{
+		{0, 0, api.OK}, {0, 99999, api.OK}, {99999, 99999, api.OK}, {5, 6, api.OK},
+		{-1, 5, api.ErrRange}, {100000, 100000, api.ErrRange}, {5, -1, api.ErrRange}, {5, 100000, api.ErrRange}, {100000, 5, api.ErrRange}, {math.MinInt, math.MaxInt, api.ErrRange},
+		{1, 0, api.ErrOrder}, {99999, 0, api.ErrOrder}, {7, 6, api.ErrOrder},
+	} {
+		if got := check.Days(x.from, x.to); got != x.want {
+			t.Errorf("Days from %d to %d: got %d, want %d", x.from, x.to, got, x.want)
+		}
+	}
+}
+
 // Terms: the digits are 0 to 9.
 func TestDigits(t *testing.T) {
 	for r := range rune(0x700) {

@@ -10,6 +10,17 @@ func Transform[S, T any](list []S, become func(S) T) []T {
 	return changed
 }
 
+// Filter returns the elements of a list that are to be kept, in their order.
+func Filter[T any](list []T, keep func(T) bool) []T {
+	var kept []T
+	for _, x := range list {
+		if keep(x) {
+			kept = append(kept, x)
+		}
+	}
+	return kept
+}
+
 // Sum returns the sum of the numbers of all elements of a list.
 func Sum[T any](list []T, numberOf func(i int, x T) int) int {
 	sum := 0

@@ -34,6 +34,24 @@ func TestTransform(t *testing.T) {
 	}
 }
 
+// Rules: the elements that are kept are in their order, and the list stays as it is.
+func TestFilter(t *testing.T) {
+	isOdd := func(n int) bool { return n%2 == 1 }
+	for _, x := range []struct{ numbers, want []int }{
+		{nil, nil}, {[]int{}, nil}, {[]int{2, 4}, nil}, {[]int{7}, []int{7}}, {[]int{3, 2, 1, 4, 1}, []int{3, 1, 1}}, {[]int{5, 3}, []int{5, 3}},
+	} {
+		before := slices.Clone(x.numbers)
+		got := lists.Filter(x.numbers, isOdd)
+		if !slices.Equal(got, x.want) {
+			t.Errorf("Filter of %v: got %v, want %v", x.numbers, got, x.want)
+		}
+		clear(got)
+		if !slices.Equal(x.numbers, before) {
+			t.Errorf("Filter changed %v to %v, or shares memory", before, x.numbers)
+		}
+	}
+}
+
 // Rules: a sum has the number of each element once, also with its index.
 func TestSum(t *testing.T) {
 	for _, words := range [][]string{nil, {""}, {"abc"}, {"abc", "", "d", "d"}} {

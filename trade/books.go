@@ -96,12 +96,7 @@ func checkLeases(s Slot) api.Errno {
 
 // checkLease returns the error of a lease by itself.
 func checkLease(l Lease) api.Errno {
-	return check.First(
-		check.Name(l.Carrier),
-		check.Day(l.From),
-		check.Day(l.To),
-		check.Unless(l.From <= l.To, api.ErrOrder),
-	)
+	return check.First(check.Name(l.Carrier), check.Days(l.From, l.To))
 }
 
 // checkLeaseOf returns the error of a lease, which has none by itself, for a slot.
