@@ -1,11 +1,9 @@
 package calendar
 
 import (
-	"strconv"
-	"strings"
-
 	"turnround/api"
 	"turnround/check"
+	"turnround/numerals"
 )
 
 const (
@@ -61,7 +59,7 @@ func PrintDate(day int) (string, api.Errno) {
 		return "", e
 	}
 	date := dateOf(day)
-	return padded(date[0], 4) + "-" + padded(date[1], 2) + "-" + padded(date[2], 2), api.OK
+	return numerals.Padded(date[0], 4) + "-" + numerals.Padded(date[1], 2) + "-" + numerals.Padded(date[2], 2), api.OK
 }
 
 // ParseDate returns the day of the text of a date.
@@ -175,9 +173,4 @@ func monthLength(year, month int) int {
 func lastSunday(year, month int) int {
 	last := dayOf(year, month, 31)
 	return last - (weekday(last)-sunday+7)%7
-}
-
-func padded(n, width int) string {
-	s := strconv.Itoa(n)
-	return strings.Repeat("0", max(0, width-len(s))) + s
 }

@@ -8,6 +8,7 @@ import (
 	"turnround/calendar"
 	"turnround/check"
 	"turnround/lists"
+	"turnround/numerals"
 )
 
 // The actions of requests.
@@ -168,9 +169,9 @@ func optionalField(at func(*Line) *string) field {
 // numberField is a number with a width.
 func numberField(at func(*Line) *int, width int) field {
 	return field{
-		show: func(l Line) string { return digits(*at(&l), width) },
+		show: func(l Line) string { return numerals.Padded(*at(&l), width) },
 		read: func(l *Line, word string) bool {
-			n, ok := number(word, width)
+			n, ok := numerals.Fixed(word, width)
 			*at(l) = n
 			return ok
 		},

@@ -6,6 +6,7 @@ import (
 	"turnround/api"
 	"turnround/check"
 	"turnround/lists"
+	"turnround/numerals"
 )
 
 const (
@@ -67,7 +68,7 @@ func isSeason(s string) bool {
 	if len(s) != seasonBytes {
 		return false
 	}
-	_, ok := number(s[1:], seasonBytes-1)
+	_, ok := numerals.Fixed(s[1:], seasonBytes-1)
 	return ok && (s[0] == 'S' || s[0] == 'W')
 }
 
@@ -134,7 +135,7 @@ func readHeader(s string) (Message, api.Errno) {
 	for i, word := range wordsOf(s) {
 		parts[i] = word
 	}
-	day, ok := number(parts[4], dayWidth)
+	day, ok := numerals.Fixed(parts[4], dayWidth)
 	m := Message{Kind: parts[1], Airport: parts[2], Season: parts[3], Day: day}
 	if !ok || parts[0] != headerWord || checkHeader(m) != api.OK {
 		return Message{}, api.ErrSyntax
@@ -143,7 +144,7 @@ func readHeader(s string) (Message, api.Errno) {
 }
 
 func printHeader(m Message) string {
-	parts := [headerWords]string{headerWord, m.Kind, m.Airport, m.Season, digits(m.Day, dayWidth)}
+	parts := [headerWords]string{headerWord, m.Kind, m.Airport, m.Season, numerals.Padded(m.Day, dayWidth)}
 	return strings.Join(parts[:], " ") + "\n"
 }
 
@@ -160,7 +161,7 @@ func isFooter(s string) bool {
 
 func checkFooter(s string, lines int) api.Errno {
 	count, found := strings.CutPrefix(s, footerWord+" ")
-	n, ok := number(count, countWidth)
+	n, ok := numerals.Fixed(count, countWidth)
 	return check.First(
 		check.Unless(found && ok, api.ErrSyntax),
 		check.Unless(n == lines, api.ErrCheck),
@@ -168,5 +169,5 @@ func checkFooter(s string, lines int) api.Errno {
 }
 
 func printFooter(lines int) string {
-	return footerWord + " " + digits(lines, countWidth) + "\n"
+	return footerWord + " " + numerals.Padded(lines, countWidth) + "\n"
 }

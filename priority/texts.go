@@ -8,6 +8,7 @@ import (
 	"turnround/api"
 	"turnround/check"
 	"turnround/lists"
+	"turnround/numerals"
 )
 
 // The words of the lines of a program, and what is behind the fact of a key.
@@ -157,7 +158,7 @@ func parseTest(word string) (Test, bool) {
 	if at < 0 {
 		return Test{}, false
 	}
-	n, ok := parseNumber(word[at+1:])
+	n, ok := numerals.Plain(word[at+1:])
 	return Test{Fact: word[:at], Op: word[at : at+1], Value: n}, ok
 }
 
@@ -178,15 +179,9 @@ func parsePool(words []string) ([3]int, bool) {
 	}
 	ok := true
 	for i := range parts {
-		n, isNumber := parseNumber(words[2*i])
+		n, isNumber := numerals.Plain(words[2*i])
 		parts[i] = n
 		ok = ok && isNumber
 	}
 	return parts, ok
-}
-
-// parseNumber returns the number of a string, and whether the string is exactly that of a number up to MaxNumber, which has 9 digits.
-func parseNumber(s string) (int, bool) {
-	n, err := strconv.Atoi(s)
-	return n, err == nil && n >= 0 && n <= api.MaxNumber && strconv.Itoa(n) == s
 }
